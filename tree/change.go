@@ -41,24 +41,30 @@ func (c *change) do(root int, n node) (int, api.Errno) {
 	return to, api.OK
 }
 
-// up goes up from the leaf, and changes each page as what is below it asks
-// for, until one stays as it is; the new root.
+// up goes up from the leaf, and changes each page that is to change; the new
+// root. It goes up to the root in any case: behind a page that stays as it is
+// there may be one whose first child's key is above the one that is put.
 func (c *change) up(root int, n node) (int, api.Errno) {
-	way := c.stack.way
+	way, changed := c.stack.way, true
 	for ; len(way) > 1; way = way[:len(way)-1] {
 		here, above := way[len(way)-1], way[len(way)-2]
-		g, e := c.group(n, here, above)
-		if e != api.OK {
-			return 0, e
+		kids := slices.Clone(above.node.kids)
+		if changed {
+			g, e := c.group(n, here, above)
+			if e != api.OK {
+				return 0, e
+			}
+			if kids, e = c.kids(g, above.node.kids); e != api.OK {
+				return 0, e
+			}
 		}
-		kids, e := c.kids(g, above.node.kids)
-		if e != api.OK {
-			return 0, e
+		if kids[0].Key > c.key {
+			kids[0].Key = "" // the key stands below it, or has gone with the child ahead of it
 		}
-		if slices.Equal(kids, above.node.kids) {
-			return root, api.OK
-		}
-		n = ofKids(kids)
+		n, changed = ofKids(kids), !slices.Equal(kids, above.node.kids)
+	}
+	if !changed {
+		return root, api.OK
 	}
 	g := group{node: n}
 	for _, top := range way {
@@ -135,11 +141,7 @@ func (c *change) kids(g group, old []api.Kid) ([]api.Kid, api.Errno) {
 	if len(with) > 0 {
 		with[0].Key = old[g.at].Key
 	}
-	l := slices.Concat(old[:g.at], with, old[g.at+len(g.old):])
-	if l[0].Key > c.key {
-		l[0].Key = "" // the key stands below it, or has gone with the child ahead of it
-	}
-	return l, api.OK
+	return slices.Concat(old[:g.at], with, old[g.at+len(g.old):]), api.OK
 }
 
 // keep puts a group into pages, as many as it needs: the old ones of it that

@@ -319,6 +319,109 @@ func everyOrder(t *testing.T, what string, s *shelf, root int, l []api.Item, min
 	}
 }
 
+// shape draws a sound tree, from its root down: leaves and twigs of any size,
+// and keys of children that are any that may be.
+func (r *draws) shape() (*shelf, int, []api.Item) {
+	s := of()
+	var l []api.Item
+	var row []api.Kid // of a level; their keys are the least ones below them
+	ahead := map[int]string{}
+	last := ""
+	for range 1 + r.below(12) {
+		var items []api.Item
+		for range 1 + r.below(3) {
+			key := string([]byte{byte(40 + 3*len(l)), byte(r.below(3))})
+			items = append(items, api.Item{Key: key[:1+r.below(2)], Value: strings.Repeat("v", r.below(70)), Kind: r.below(3)})
+			l = append(l, items[len(items)-1])
+		}
+		b, _ := leaf.Lay(items...)
+		s.last++
+		s.pages[s.last] = raw(s.last, api.Leaf, b)
+		row = append(row, kid(items[0].Key, s.last))
+		ahead[s.last], last = last, items[len(items)-1].Key
+	}
+	for len(row) > 1 {
+		row = r.level(s, row, ahead)
+	}
+	return s, row[0].Page, l
+}
+
+// level draws the twigs above a row of pages; ahead tells the greatest key ahead of each page.
+func (r *draws) level(s *shelf, row []api.Kid, ahead map[int]string) []api.Kid {
+	var above []api.Kid
+	for len(row) > 0 {
+		n := 2 + r.below(4)
+		if len(row)-n < 2 {
+			n = len(row)
+		}
+		var kids []api.Kid
+		for at, k := range row[:n] {
+			from := ahead[k.Page] + "\x00"
+			if at == 0 {
+				from = ""
+			}
+			kids = append(kids, kid([]string{k.Key, from, max(from, k.Key[:len(k.Key)-1]), max(from, string([]byte{k.Key[0] - 1}))}[r.below(4)], k.Page))
+		}
+		s.last++
+		s.pages[s.last] = twigOf(s.last, kids...)
+		ahead[s.last] = ahead[row[0].Page]
+		above = append(above, kid(row[0].Key, s.last))
+		row = row[n:]
+	}
+	return above
+}
+
+// Whatever sound tree it is, and whichever of its pages are mine: each put and
+// each delete makes a sound one of it.
+func TestP1202AnyShape(t *testing.T) {
+	r, deep, stay := &draws{3}, 0, 0
+	for n := range 400 {
+		s, root, l := r.shape()
+		v, ok := s.look(root)
+		if !ok || !slices.Equal(v.items, l) {
+			t.Fatalf("the test takes its own tree %d for none", n)
+		}
+		deep = max(deep, v.depth)
+		for k, act := range acts(l) {
+			what := "tree " + strconv.Itoa(n) + ", act " + strconv.Itoa(k)
+			c := owned(s, r.below(4))
+			to, e := act(c, root)
+			check(t, what, e, api.OK)
+			check(t, what+": Check", tree.Check(c, to), api.OK)
+			checkPages(t, what, c, s.pages, v.ids, to)
+			if len(l) > 1 {
+				if _, ok := c.look(to); !ok {
+					t.Errorf("%s: no tree", what)
+				}
+			}
+			if to == root {
+				stay++
+			}
+		}
+		if t.Failed() {
+			return
+		}
+	}
+	if deep < 4 || stay < 1000 {
+		t.Errorf("no tree had more than %d levels; the root was kept but %d times", deep, stay)
+	}
+}
+
+// A key that is put ahead of all others may be above an inner first key, and
+// below an outer one: that one is changed, too.
+func TestP1202OuterKeys(t *testing.T) {
+	for which := range 8 {
+		s := owned(outer(), 0)
+		for n, id := range []int{4, 9, 20} {
+			s.mine[id] = which>>n&1 > 0
+		}
+		v, _ := s.look(20)
+		root := put(t, s, 20, item("b", "1"))
+		checkTree(t, "mine by "+strconv.Itoa(which), s, root, leaf.Put(v.items, item("b", "1"))...)
+		checkGet(t, "mine by "+strconv.Itoa(which), s, root, "b", item("b", "1"), true)
+	}
+}
+
 // A page that is not there is an error of Pages, not of the tree.
 func TestP1202CheckOfPagesThatAreNotThere(t *testing.T) {
 	for _, root := range []int{math.MinInt, -1, 1, 99, 5000, math.MaxInt} {

@@ -247,6 +247,16 @@ func three() *shelf {
 	)
 }
 
+// outer tells a tree of three levels, its root 20, all of whose inner first
+// keys are below the ones above them.
+func outer() *shelf {
+	return of(
+		leafOf(4, "d"), leafOf(7, "f", "h"), twigOf(9, kid("", 4), kid("e", 7)),
+		leafOf(11, "k"), leafOf(12, "p"), twigOf(15, kid("a", 11), kid("n", 12)),
+		twigOf(20, kid("c", 9), kid("i", 15)),
+	)
+}
+
 // keysOf tells the keys of items.
 func keysOf(l []api.Item) []string {
 	var keys []string

@@ -38,6 +38,7 @@ func trees() map[string]func() (*shelf, int) {
 		"one leaf":      func() (*shelf, int) { return of(leafOf(6, "b", "d", "dd", "e")), 6 },
 		"two levels":    func() (*shelf, int) { return two(), 9 },
 		"three levels":  func() (*shelf, int) { return three(), 20 },
+		"outer above":   func() (*shelf, int) { return outer(), 20 },
 		"many":          func() (*shelf, int) { return grown(500, 7) },
 	}
 }
