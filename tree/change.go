@@ -42,7 +42,7 @@ func (c *change) do(root int, n node) (int, api.Errno) {
 }
 
 // up goes up from the leaf, and changes each page that is to change; the new
-// root. It goes up to the root in any case: behind a page that stays as it is
+// root. It goes up to the root in any case: above a page that stays as it is
 // there may be one whose first child's key is above the one that is put.
 func (c *change) up(root int, n node) (int, api.Errno) {
 	way, changed := c.stack.way, true
